@@ -1,0 +1,1 @@
+"""Deltahouse: answers kept as changes come."""

@@ -1,0 +1,78 @@
+"""What several tests share: wrong things, great numbers, and heaps made by a seeded source."""
+
+import random
+
+GREAT = 10 ** 200 - 1
+WIDTHS = range(1, 9)
+
+
+class Odd:
+    """A thing of no kind that the document knows, with no order and no equals."""
+
+    def __eq__(self, other):
+        raise RuntimeError("not to be compared")
+
+    def __lt__(self, other):
+        raise RuntimeError("not to be compared")
+
+    def __bool__(self):
+        raise RuntimeError("not to be asked for its truth")
+
+
+def ring_of_itself():
+    thing = []
+    thing.append(thing)
+    return thing
+
+
+def wrong_things():
+    """Things that are neither a row nor a heap, of whatever width."""
+    return [
+        None, True, False, 0, 1, -1, GREAT, 1.0, 1.5, float("nan"), 1j,
+        "", "1", "1,2", "12", b"", b"1", (),
+        {}, {1: 2}, {(1,): 1}, set(), {1}, frozenset([1]), range(1), iter([1]),
+        object(), Odd(), int, tuple, len, lambda: None, ring_of_itself(),
+        [None], [True], [1], ["1"], [[1]], [()], [(1,)], [{}],
+    ]
+
+
+def random_pairs(source, width, count=8):
+    """Few numbers, so that rows come twice and weights come to 0."""
+    return [
+        (tuple(source.randint(-1, 2) for place in range(width)), source.randint(-2, 2))
+        for turn in range(count)
+    ]
+
+
+def table_of(pairs):
+    """A heap reckoned another way: weights by rows, those of 0 left out."""
+    rows = {row for row, weight in pairs}
+    sums = {row: sum(weight for known, weight in pairs if known == row) for row in rows}
+    return {row: weight for row, weight in sums.items() if weight}
+
+
+def heap_from(table):
+    return [(row, table[row]) for row in sorted(table)]
+
+
+def random_heap(source, width, count=8):
+    return heap_from(table_of(random_pairs(source, width, count)))
+
+
+def seeds(count=60):
+    return [random.Random(number) for number in range(count)]
+
+
+def check_plain_heap(case, heap, width):
+    """That a told heap is of just the told kinds, not only equal to one."""
+    case.assertIs(type(heap), list)
+    for entry in heap:
+        case.assertIs(type(entry), tuple)
+        case.assertEqual(len(entry), 2)
+        case.assertIs(type(entry[0]), tuple)
+        case.assertEqual(len(entry[0]), width)
+        case.assertTrue(all(type(number) is int for number in entry[0]))
+        case.assertIs(type(entry[1]), int)
+        case.assertNotEqual(entry[1], 0)
+    rows = [entry[0] for entry in heap]
+    case.assertEqual(rows, sorted(set(rows)))
