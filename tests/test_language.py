@@ -45,6 +45,10 @@ BANNED_NAMES = set("""
     methodcaller os quit setattr super type vars sys chr format format_map __name__
 """.split())
 
+VALUES_NOT_USED = set("""
+    items keys values pop update append clear extend insert remove reverse setdefault sort args encode format
+""".split())
+
 
 def text_faults(text):
     if not all(sign == "\n" or " " <= sign <= "~" for sign in text):
@@ -99,6 +103,43 @@ def method_call_faults(tree, package_names):
         if isinstance(node, ast.Call) and isinstance(node.func, ast.Attribute):
             if node.func.attr not in METHODS | package_names | {"__init__"}:
                 yield f"L25 line {node.lineno}: {node.func.attr}"
+
+
+def value_names(tree):
+    """The names under which objects of the package keep values."""
+    return {
+        node.attr for node in ast.walk(tree) if isinstance(node, ast.Attribute) and isinstance(node.ctx, ast.Store)
+    }
+
+
+def value_faults(tree, package_names):
+    for name in sorted(value_names(tree) & (package_names | method_names(tree))):
+        yield f"L18 {name} is a method and a value"
+    for name in sorted(value_names(tree) & VALUES_NOT_USED):
+        yield f"L26 {name} is no name for a value"
+
+
+def is_set(node):
+    if isinstance(node, ast.BinOp):
+        return is_set(node.left) and is_set(node.right)
+    return isinstance(node, ast.Call) and getattr(node.func, "id", None) in ("set", "frozenset")
+
+
+def set_faults(tree):
+    """Sets that are kept, walked, handed on or given back; what stands by `in`, `sorted` or `len` is let be."""
+    for node in ast.walk(tree):
+        parts = []
+        if isinstance(node, (ast.Assign, ast.AugAssign, ast.Return)):
+            parts = [node.value]
+        elif isinstance(node, (ast.For, ast.comprehension)):
+            parts = [node.iter]
+        elif isinstance(node, ast.Attribute):
+            parts = [node.value]
+        elif isinstance(node, ast.Call) and getattr(node.func, "id", None) not in ("sorted", "len"):
+            parts = node.args
+        for part in parts:
+            if part is not None and is_set(part):
+                yield f"L24 line {part.lineno}: a set is kept or walked"
 
 
 def top_faults(tree):
@@ -194,7 +235,8 @@ def compare_faults(node):
 def faults_of(text, package_names=frozenset()):
     tree = ast.parse(text)
     found = list(text_faults(text)) + list(top_faults(tree)) + list(name_faults(tree))
-    found += list(method_call_faults(tree, package_names))
+    found += list(method_call_faults(tree, package_names)) + list(value_faults(tree, package_names))
+    found += list(set_faults(tree))
     for node in ast.walk(tree):
         if isinstance(node, ast.stmt):
             found += list(statement_faults(node))
@@ -235,6 +277,10 @@ class Language(unittest.TestCase):
             for name in free:
                 drawn.pop(name)
 
+    def test_the_walk_lets_sets_be_where_they_may_stand(self):
+        for text in ["sorted(set(a) | set(a))", "len(set(a))", "1 in set(a)", "set(a) == set(a)"]:
+            self.assertEqual(faults_of(f"def f(a):\n    return {text}\n"), [])
+
     def test_the_walk_sees_faults(self):
         for text in [
             "import os\n", "from deltahouse.heaps import *\n", "def f(*a):\n    return a\n", "x = 1.5\n",
@@ -246,6 +292,9 @@ class Language(unittest.TestCase):
             "def f(a):\n    with a:\n        pass\n", "def f(a):\n    return f'{a + 1}'\n",
             "def f(a):\n" + "    a = a\n" * 40,
             "def f(a):\n    try:\n        a()\n    except Exception:\n        pass\n",
+            "class A:\n    def f(self):\n        self.keys = 1\n", "class A:\n    def f(self):\n        self.f = 1\n",
+            "def f(a):\n    return set(a)\n", "def f(a):\n    b = set(a) | set(a)\n    return len(b)\n",
+            "def f(a):\n    return [b for b in set(a)]\n", "def f(a):\n    return list(set(a))\n",
         ]:
             with self.subTest(text=text):
                 self.assertNotEqual(faults_of(text), [])
