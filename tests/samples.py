@@ -2,6 +2,11 @@
 
 import random
 
+from deltahouse.errors import (
+    HouseError, NoBook, NoDeed, NoHeap, NoMoment, NoName, NoRow, NoText, TooLate, TooMuch,
+)
+
+REFUSALS = (NoBook, NoText, NoName, NoHeap, NoRow, NoMoment, NoDeed, TooLate, TooMuch)
 GREAT = 10 ** 200 - 1
 WIDTHS = range(1, 9)
 
@@ -76,3 +81,11 @@ def check_plain_heap(case, heap, width):
         case.assertNotEqual(entry[1], 0)
     rows = [entry[0] for entry in heap]
     case.assertEqual(rows, sorted(set(rows)))
+
+
+def check_refused(case, refusal, call, *handed):
+    """That a call is refused with this refusal, a HouseError, and with none of the others."""
+    with case.assertRaises(HouseError) as caught:
+        call(*handed)
+    for known in REFUSALS:
+        case.assertEqual(isinstance(caught.exception, known), known is refusal)

@@ -3,11 +3,8 @@
 import unittest
 
 from deltahouse import errors
-from deltahouse.errors import (
-    HouseError, NoBook, NoDeed, NoHeap, NoMoment, NoName, NoRow, NoText, TooLate, TooMuch,
-)
-
-REFUSALS = [NoBook, NoText, NoName, NoHeap, NoRow, NoMoment, NoDeed, TooLate, TooMuch]
+from deltahouse.errors import HouseError
+from samples import REFUSALS
 
 
 class Errors(unittest.TestCase):
@@ -27,7 +24,7 @@ class Errors(unittest.TestCase):
 
     def test_there_are_ten_classes(self):
         found = [name for name, value in vars(errors).items() if isinstance(value, type)]
-        self.assertEqual(sorted(found), sorted(kind.__name__ for kind in [HouseError] + REFUSALS))
+        self.assertEqual(sorted(found), sorted(kind.__name__ for kind in (HouseError,) + REFUSALS))
 
     def test_each_can_be_raised_and_taken_as_house_error(self):
         for refusal in REFUSALS:

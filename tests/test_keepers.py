@@ -5,14 +5,10 @@ import random
 import unittest
 
 import reckoned
-from deltahouse.errors import (
-    HouseError, NoBook, NoDeed, NoHeap, NoMoment, NoName, NoRow, NoText, TooLate, TooMuch,
-)
+from deltahouse.errors import TooMuch
 from deltahouse.keepers import JoinKeeper, LeftKeeper, OnceKeeper
 from keeping import Kept, KeeperChecks, summed_up, turned
-from samples import GREAT, random_heap, seeds
-
-OTHER_REFUSALS = (NoBook, NoDeed, NoHeap, NoMoment, NoName, NoRow, NoText, TooLate)
+from samples import GREAT, check_refused, random_heap, seeds
 
 # Of such widths and pairs at most 256 of the rows that random_heap makes can meet: none of them is refused.
 TWO_HEAPS = [
@@ -135,10 +131,7 @@ class LeftKept(KeeperChecks, unittest.TestCase):
 class TooManyMeet(unittest.TestCase):
     def check_refused(self, keeper, one, other):
         handed = list(one), list(other)
-        with self.assertRaises(TooMuch) as caught:
-            keeper.change(*handed)
-        self.assertIsInstance(caught.exception, HouseError)
-        self.assertNotIsInstance(caught.exception, OTHER_REFUSALS)
+        check_refused(self, TooMuch, keeper.change, *handed)
         self.assertEqual(handed, (one, other))
 
     def test_four_hundred_and_four_hundred_and_one(self):
