@@ -1,6 +1,6 @@
 """Keepers for groups, by a word: they tell how the groups' rows change."""
 
-from deltahouse.groups import counted, least, most, summed
+from deltahouse.groups import grouped
 from deltahouse.heaps import less, plus
 from deltahouse.parts import PartedHeap
 
@@ -13,14 +13,7 @@ class GroupKeeper:
         self.groups = PartedHeap(keys)
 
     def asked_of(self, one):
-        if self.word == "count":
-            return counted(one, self.group_keys)
-        if self.word == "sum":
-            return summed(one, self.place, self.group_keys)
-        if self.word == "least":
-            return least(one, self.place, self.group_keys)
-        # The one word left is "most".
-        return most(one, self.place, self.group_keys)
+        return grouped(self.word, one, self.place, self.group_keys)
 
     def change(self, one):
         touched = self.groups.keys_of(one)

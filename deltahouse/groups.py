@@ -24,3 +24,14 @@ def least(one, place, keys):
 
 def most(one, place, keys):
     return told_by_groups(once(one), keys, lambda group: max([row[place] for row, weight in group]))
+
+
+def grouped(word, one, place, keys):
+    if word == "count":
+        return counted(one, keys)
+    if word == "sum":
+        return summed(one, place, keys)
+    if word == "least":
+        return least(one, place, keys)
+    # The one word left is "most".
+    return most(one, place, keys)

@@ -8,6 +8,10 @@ def is_whole(thing):
     return isinstance(thing, int) and not isinstance(thing, bool)
 
 
+def is_small(number):
+    return abs(number) < 10 ** 60
+
+
 def is_row(thing, width):
     if not isinstance(thing, tuple):
         return False

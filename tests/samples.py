@@ -1,4 +1,4 @@
-"""What several tests share: wrong things, great numbers, and heaps made by a seeded source."""
+"""What several tests share: wrong things, numbers as texts, great ones, and heaps made by a seeded source."""
 
 import random
 
@@ -9,6 +9,27 @@ from deltahouse.errors import (
 REFUSALS = (NoBook, NoText, NoName, NoHeap, NoRow, NoMoment, NoDeed, TooLate, TooMuch)
 GREAT = 10 ** 200 - 1
 WIDTHS = range(1, 9)
+SIXTY = "9" * 60
+SIXTY_ONE = "1" + "0" * 60
+
+NUMBERS = [
+    ("0", 0), ("1", 1), ("-1", -1), ("9", 9), ("10", 10), ("-10", -10), ("100", 100), ("1234567890", 1234567890),
+    (SIXTY, 10 ** 60 - 1), ("-" + SIXTY, 1 - 10 ** 60), ("1" + "0" * 59, 10 ** 59),
+]
+
+# None of these is a number, nor a row or a heap with one of them in the place of a number.
+NO_NUMBERS = [
+    "-", "--1", "1-", "1-1", "+1", "+0", "-+1", "+-1", "-0", "00", "01", "-01", "007", "-00", "0" * 60, "0" * 61,
+    SIXTY_ONE, "-" + SIXTY_ONE, "0" + SIXTY, "1" * 5000, "1_000", "1.0", "1e3", "0x1", "0b1", "0o7", "1L", "a", "x1",
+    "1x", "None", "True", "inf", "nan", "''", '"1"', "(1)", "[1]", "1;", ";", "/", ":", "1/1", "~", "%", "!",
+    "\t", "\n", "\r", "\v", "\f", "\0", "1\t", "\t1", "1\n", "\n1", "1\r", "1\r\n", "1\v", "1\f", "1\x1c", "1\x85",
+    "1\u2028", "1\0", "\u00a01", "1\u00a0", "1\u200b", "\ufeff1", "\u22121", "\u20131", "\uff0d1",
+    # Figures that are none of 0 to 9: of other scripts, raised, lowered, in circles, as parts, wide ones.
+    "\u0661", "\u06f1", "\u0967", "\u0be7", "\uff11", "\uff10", "\U0001d7ce", "\U0001d7d9", "\u00b9", "\u00b2",
+    "\u2081", "\u2460", "\u00bd", "\u2160", "\u4e00", "1\u0661", "\u06611", "-\u0661", "-\uff11", "\ud800",
+]
+
+WITH_BLANKS = [" ", "  ", " 1", "1 ", "1  ", "  1", "- 1", "1 1", " -1"]
 
 
 class Odd:
