@@ -37,3 +37,10 @@ def answers_over(book, tables):
 
 def answers(book, changes):
     return answers_over(book, tables_of(book, changes))
+
+
+def answer_in(known, name):
+    if not isinstance(name, str) or name not in known:
+        raise NoName("no line of the book has this name")
+    # What is kept must not go out of hand: the asker may do with the told list as it likes.
+    return list(known[name])

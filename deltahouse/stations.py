@@ -71,11 +71,14 @@ def line_answer(line, known):
     return asked_of_two(line, heaps[0], heaps[1])
 
 
+def rows_given(station, known):
+    names = names_asked(rules_of(station))
+    return [(name, rows_there(known[name])) for name in names if name not in rings_of(station)]
+
+
 def knot_answers(station, known):
-    rings = rings_of(station)
-    rules = rules_of(station)
-    given = [(name, rows_there(known[name])) for name in names_asked(rules) if name not in rings]
-    return [(ring, as_heap(rows)) for ring, rows in standstill(rings, rules, given)]
+    still = standstill(rings_of(station), rules_of(station), rows_given(station, known))
+    return [(ring, as_heap(rows)) for ring, rows in still]
 
 
 def check_size(one):

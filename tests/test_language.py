@@ -163,6 +163,22 @@ def at_top(node, name):
     return True
 
 
+def imported_names(tree):
+    return {alias.name for node in tree.body if isinstance(node, ast.ImportFrom) for alias in node.names}
+
+
+def local_faults(tree):
+    """Parameters and locals that are called like a class or an import of their file."""
+    taken = imported_names(tree) | {node.name for node in tree.body if isinstance(node, ast.ClassDef)}
+    functions = [node for node in ast.walk(tree) if isinstance(node, (ast.FunctionDef, ast.Lambda))]
+    for node in functions:
+        for part in ast.walk(node):
+            stored = isinstance(part, ast.Name) and isinstance(part.ctx, ast.Store)
+            name = part.arg if isinstance(part, ast.arg) else part.id if stored else None
+            if name in taken:
+                yield f"L15 line {part.lineno}: {name} is a class or an import too"
+
+
 def function_faults(node):
     taken = node.args
     if taken.vararg or taken.kwarg or taken.kwonlyargs or taken.posonlyargs or node.decorator_list:
@@ -236,7 +252,7 @@ def faults_of(text, package_names=frozenset()):
     tree = ast.parse(text)
     found = list(text_faults(text)) + list(top_faults(tree)) + list(name_faults(tree))
     found += list(method_call_faults(tree, package_names)) + list(value_faults(tree, package_names))
-    found += list(set_faults(tree))
+    found += list(set_faults(tree)) + list(local_faults(tree))
     for node in ast.walk(tree):
         if isinstance(node, ast.stmt):
             found += list(statement_faults(node))
@@ -262,6 +278,15 @@ class Language(unittest.TestCase):
         for name, text in texts.items():
             with self.subTest(file=name):
                 self.assertEqual(faults_of(text, package_names), [])
+
+    def test_each_name_is_drawn_from_the_file_that_defines_it(self):
+        trees = {path.stem: ast.parse(path.read_text(encoding="utf-8")) for path in package_files()}
+        for stem, tree in trees.items():
+            for node in [node for node in tree.body if isinstance(node, ast.ImportFrom)]:
+                there = trees[node.module.split(".")[1]]
+                own = {name for part in there.body for line, name in bound_names(ast.Module([part], []))
+                       if at_top(part, name)} - imported_names(there)
+                self.assertLessEqual({alias.name for alias in node.names}, own, f"L16 in {stem}")
 
     def test_no_two_files_draw_from_one_another(self):
         drawn = {}
@@ -295,6 +320,9 @@ class Language(unittest.TestCase):
             "class A:\n    def f(self):\n        self.keys = 1\n", "class A:\n    def f(self):\n        self.f = 1\n",
             "def f(a):\n    return set(a)\n", "def f(a):\n    b = set(a) | set(a)\n    return len(b)\n",
             "def f(a):\n    return [b for b in set(a)]\n", "def f(a):\n    return list(set(a))\n",
+            "from deltahouse.heaps import plus\n\n\ndef f(plus):\n    return 1\n",
+            "from deltahouse.heaps import plus\n\n\ndef f(a):\n    plus = a\n    return 1\n",
+            "class A:\n    pass\n\n\ndef f(a):\n    return [1 for A in a]\n",
         ]:
             with self.subTest(text=text):
                 self.assertNotEqual(faults_of(text), [])

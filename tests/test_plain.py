@@ -12,20 +12,13 @@ from deltahouse.heaps import heap_of, less, plus, rows_there, times
 from deltahouse.joins import joined, left_over
 from deltahouse.plain import answers
 from deltahouse.rings import standstill
-from deltahouse.texts import read_heap, show_heap
+from deltahouse.texts import show_heap
+from housed import book_of, read_changes, rows
 from ringed import chain, copied, lone, spoiled
 from samples import GREAT, Odd, check_plain_heap, check_refused, random_heap, seeds, wrong_things
 
 SMALL = 10 ** 60 - 1
 NOT_SMALL = 10 ** 60
-
-
-def book_of(*lines):
-    return read_book("\n".join(lines))
-
-
-def rows(count, start=0, weight=1):
-    return [((number,), weight) for number in range(start, start + count)]
 
 
 def wide(count, width):
@@ -35,10 +28,6 @@ def wide(count, width):
 def told_of(book, changes):
     """The answers, heaps as texts."""
     return [(name, show_heap(heap)) for name, heap in answers(book, changes)]
-
-
-def read_changes(*pairs):
-    return [(name, read_heap(text)) for name, text in pairs]
 
 
 def answers_or_none(book, changes):

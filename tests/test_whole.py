@@ -1,10 +1,19 @@
-"""What promise 3 says of heaps: order, bundles, and what is taken back."""
+"""What promise 3 says of heaps and of houses: order, bundles, what is taken back, and all ways to one answer."""
 
 import itertools
 import unittest
 
+import booked
 from deltahouse.asks import once, picked, taken
+from deltahouse.books import read_book
+from deltahouse.desk import Desk
+from deltahouse.errors import TooMuch
 from deltahouse.heaps import heap_of, laid_together, less, plus, times
+from deltahouse.live import Live
+from deltahouse.moments import Moments
+from deltahouse.plain import answers
+from deltahouse.texts import show_heap
+from housed import names_in, random_bundle, read_changes, shown, told_by_name, told_or_refusal
 from samples import GREAT, check_plain_heap, random_heap, random_pairs, seeds
 
 
@@ -79,6 +88,60 @@ class QuestionsOfSums(unittest.TestCase):
                      heap_of(one + times(one, -1) + [((7, 7), 0)]), once(times(one, -1)), picked(one, (0, "is", 1))]:
             check_plain_heap(self, heap, 2)
         check_plain_heap(self, taken(one, (0,)), 1)
+
+
+class AllWaysToOneAnswer(unittest.TestCase):
+    def runs(self):
+        for source in seeds(80):
+            text = booked.random_book(source, 14)
+            bundles = [(source.randint(0, 5), random_bundle(source, read_book(text), 4)) for turn in range(6)]
+            yield text, [(moment, changes) for moment, changes in bundles if changes]
+
+    def test_live_by_moments_at_the_desk_and_asked_anew(self):
+        for text, bundles in self.runs():
+            book = read_book(text)
+            live, house, desk, told, anew = Live(book), Moments(book), Desk(text), [], []
+            for moment, changes in bundles:
+                step = told_or_refusal(house.take_in, moment, changes)
+                written = "; ".join(f"{name} {show_heap(heap)}" for name, heap in changes)
+                said = told_or_refusal(desk.say, f"in {moment} {written}")
+                if step is TooMuch:
+                    self.assertIs(said, TooMuch)
+                    continue
+                self.assertEqual(said, "\n".join(" ".join(map(str, part)) for part in shown(step)) or "nothing")
+                told += step
+                anew += changes
+                # Its tables are those of the last moment, which the other house has looked at: it refuses none.
+                live.take_in(changes)
+            for name, heap in answers(book, anew):
+                self.assertEqual(live.answer(name), heap)
+                self.assertEqual(house.answer(5, name), heap)
+                self.assertEqual(desk.say(f"ask 5 {name}"), show_heap(heap))
+                self.assertEqual(told_by_name(told, name), heap)
+
+    def test_a_row_of_a_ring_goes_with_its_last_ground_not_before(self):
+        live = Live(read_book("table s 1\ntable d 2\nring r 1\nrule r s 0\nrule r r d 0=0 2"))
+        for pairs, told in [
+            ([("s", "1*1"), ("d", "1,2*1 2,3*1 3,2*1")],
+             [("s", "1*1"), ("d", "1,2*1 2,3*1 3,2*1"), ("r", "1*1 2*1 3*1")]),
+            ([("s", "3*1")], [("s", "3*1")]),
+            ([("d", "1,2*-1")], [("d", "1,2*-1")]),
+            ([("s", "3*-1")], [("s", "3*-1"), ("r", "2*-1 3*-1")]),
+            ([("d", "1,3*2")], [("d", "1,3*2"), ("r", "2*1 3*1")]),
+            ([("d", "1,3*-1")], [("d", "1,3*-1")]),
+            ([("d", "1,3*-1")], [("d", "1,3*-1"), ("r", "2*-1 3*-1")]),
+        ]:
+            self.assertEqual(shown(live.take_in(read_changes(*pairs))), told)
+
+    def test_the_same_is_told_and_kept_whatever_else_was_asked_between(self):
+        for text, bundles in self.runs():
+            book = read_book(text)
+            asked, quiet = Moments(book), Moments(book)
+            for moment, changes in bundles:
+                for name in names_in(book):
+                    asked.answer(moment, name)
+                self.assertEqual(told_or_refusal(asked.take_in, moment, changes),
+                                 told_or_refusal(quiet.take_in, moment, changes))
 
 
 if __name__ == "__main__":
